@@ -1,0 +1,1 @@
+"""Shelvesmoved: a house of books moved, shelf by shelf and cart by cart."""

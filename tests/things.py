@@ -1,0 +1,45 @@
+"""What the tests have in common: things of every kind, and how a refusal is checked."""
+
+import unittest
+
+from shelvesmoved.errors import NoName, ShelvesError
+
+THIRTY_FIGURES = 10 ** 30 - 1
+
+
+def deep(levels):
+    """Lists within one another."""
+    thing = []
+    for _ in range(levels - 1):
+        thing = [thing]
+    return thing
+
+
+# None of these is a whole number, a name, a mark, a volume, or the parts of a mark.
+ODD_THINGS = [
+    None, True, False, "", " ", "\n", "-", ".", "A", "Z9", "a b", "ab\n", "\nab", "a.", ".a", "a..b", "x" * 400,
+    "9" * 400, "01", "-1", "+1", "1_0", [], (), {}, [[]], ((),), [None], (None,), [True], (False,), {"a": 1},
+    {0: "a", True: None}, deep(6), [0] * 400, ("a", "A", 1), ("a", "a", 1, 1, 1), ["a", "A", 1, 1], NoName("a"),
+    ShelvesError("a"), [NoName(1)], (ShelvesError("a"),),
+]
+
+ODD_NUMBERS = [-THIRTY_FIGURES, -1, THIRTY_FIGURES]
+
+
+class Case(unittest.TestCase):
+    """A test case that knows refusals."""
+
+    def assert_refused(self, kind, fields, call, *arguments):
+        """The call is refused by just this class, with these very things, and changes no argument."""
+        ahead = repr(arguments)
+        with self.assertRaises(ShelvesError) as caught:
+            call(*arguments)
+        error = caught.exception
+        self.assertIs(type(error), kind, repr(arguments))
+        self.assertEqual(sorted(vars(error)), sorted(fields))
+        for name, thing in fields.items():
+            self.assertIs(getattr(error, name), thing)
+        self.assertEqual(repr(arguments), ahead)
+
+    def assert_found(self, kind, found, call, *arguments):
+        self.assert_refused(kind, {"found": found}, call, *arguments)
