@@ -6,6 +6,7 @@ from shelvesmoved.words import is_name, is_whole
 
 GREATEST_SIZE = 9
 GREATEST_WIDTH = 99
+MOST_VOLUMES = 60
 
 
 def is_volume(thing):
@@ -53,6 +54,20 @@ def volume_key(volume):
     """What volumes are put in order by: of two keys Python orders that of the volume ahead first."""
     name, mark, size, _ = volume
     return (size, mark_key(mark), name)
+
+
+def place_in(volume, row):
+    """How many volumes of a row in order stand ahead of a volume."""
+    key = volume_key(volume)
+    low = 0
+    high = len(row)
+    while low < high:
+        middle = (low + high) // 2
+        if volume_key(row[middle]) < key:
+            low = middle + 1
+        else:
+            high = middle
+    return low
 
 
 def is_size(thing):

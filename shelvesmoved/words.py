@@ -1,4 +1,6 @@
-"""Whole numbers and names: what is one, and what number a text writes."""
+"""Whole numbers and names: what is one, what number a text writes, and where a name stands."""
+
+from shelvesmoved.errors import Unknown
 
 SMALL_LETTERS = "abcdefghijklmnopqrstuvwxyz"
 FIGURES = "0123456789"
@@ -9,6 +11,11 @@ def is_whole(thing, low, high):
     """Whether a thing is a whole number from low to high, both counted."""
     # For Python a truth is an int, too; here it is no whole number.
     return isinstance(thing, int) and not isinstance(thing, bool) and low <= thing <= high
+
+
+def are_whole(things, low, high):
+    """Whether things are a list or a tuple of whole numbers from low to high."""
+    return isinstance(things, (list, tuple)) and all([is_whole(thing, low, high) for thing in things])
 
 
 def is_letters(thing, most):
@@ -44,3 +51,17 @@ def is_plainly_written(text):
 def has_only(text, signs):
     """Whether each sign of a text is one of the told ones."""
     return all([sign in signs for sign in text])
+
+
+def names_of(rows):
+    """The names of tuples that begin with a name, as volumes, runs and shelves do."""
+    return [row[0] for row in rows]
+
+
+def spot_of(name, rows):
+    """The place of the tuple that begins with a name; refuses any thing that is no name of one."""
+    names = names_of(rows)
+    # Not asked of a dict: what is handed in may be a list, which can't be a key.
+    if name not in names:
+        raise Unknown(name)
+    return names.index(name)

@@ -43,3 +43,35 @@ class Case(unittest.TestCase):
 
     def assert_found(self, kind, found, call, *arguments):
         self.assert_refused(kind, {"found": found}, call, *arguments)
+
+    def assert_new_each_time(self, ask):
+        """What is told is a new list each time, and what is done to it changes nothing of what is told next."""
+        told = ask()
+        self.assertIs(type(told), list)
+        self.assertIsNot(told, ask())
+        ahead = list(told)
+        told.append("more")
+        told.reverse()
+        self.assertEqual(ask(), ahead)
+        ask().clear()
+        self.assertEqual(ask(), ahead)
+
+
+def names(many):
+    """As many unlike names, in order."""
+    letters = "abcdefghijklmnopqrstuvwxyz"
+    return [letters[at // 26] + letters[at % 26] for at in range(many)]
+
+
+class Numbers:
+    """Numbers in no plain order, the same ones each time."""
+
+    def __init__(self, begin):
+        self.state = begin
+
+    def below(self, many):
+        self.state = (self.state * 1103515245 + 12345) % 2 ** 31
+        return self.state // 65536 % many
+
+    def one_of(self, things):
+        return things[self.below(len(things))]
