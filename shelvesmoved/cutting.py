@@ -91,8 +91,13 @@ def is_cutting_of_all(widths, lengths, ends):
 
 def free_length(widths, lengths, ends):
     """The least length that is free on a shelf, over all shelves."""
+    return min([length - sum(part) for length, part in zip(lengths, parts_by(widths, ends))])
+
+
+def parts_by(row, ends):
+    """What stands in a row, part by part: between each end and the one ahead of it."""
     begins = [0] + ends[:-1]
-    return min([length - sum(widths[begin:end]) for length, begin, end in zip(lengths, begins, ends)])
+    return [row[begin:end] for begin, end in zip(begins, ends)]
 
 
 def greatest_free(widths, lengths):

@@ -2,7 +2,7 @@
 
 from shelvesmoved.errors import (Broken, NoName, NoNumber, NoRoom, NoRows, NoShelf, Taken, TooLow, TooMany,
                                  Unknown)
-from shelvesmoved.volumes import GREATEST_SIZE, MOST_VOLUMES, need_volume, place_in, volume_key
+from shelvesmoved.volumes import GREATEST_SIZE, MOST_VOLUMES, need_volume, place_in, volume_key, widths_of
 from shelvesmoved.words import is_name, is_whole, names_of, spot_of
 
 MOST_SHELVES = 40
@@ -65,7 +65,7 @@ class House:
     def free(self, shelf):
         """How much of a shelf's length is free."""
         at = spot_of(shelf, self._shelves)
-        return self._shelves[at][2] - sum([volume[3] for volume in self._rows[at]])
+        return self._shelves[at][2] - sum(widths_of(self._rows[at]))
 
     def rows(self):
         """The volumes on each shelf, shelf by shelf."""

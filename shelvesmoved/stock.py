@@ -2,7 +2,7 @@
 
 from shelvesmoved.errors import NoNumber, Taken, TooMany
 from shelvesmoved.marks import need_mark
-from shelvesmoved.volumes import MOST_VOLUMES, is_size, is_width, need_volume, place_in
+from shelvesmoved.volumes import MOST_VOLUMES, is_size, is_width, need_volume, place_in, widths_of
 from shelvesmoved.words import names_of, spot_of
 
 
@@ -51,7 +51,7 @@ class Stock:
 
     def total(self):
         """How wide the volumes are together."""
-        return sum([volume[3] for volume in self._volumes])
+        return sum(widths_of(self._volumes))
 
     def volume(self, name):
         """The volume of a name."""

@@ -70,6 +70,10 @@ def place_in(volume, row):
     return low
 
 
+def widths_of(volumes):
+    return [volume[3] for volume in volumes]
+
+
 def is_size(thing):
     return is_whole(thing, 1, GREATEST_SIZE)
 

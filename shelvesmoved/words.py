@@ -9,8 +9,13 @@ MOST_IN_NAME = 8
 
 def is_whole(thing, low, high):
     """Whether a thing is a whole number from low to high, both counted."""
+    return is_whole_from(thing, low) and thing <= high
+
+
+def is_whole_from(thing, low):
+    """Whether a thing is a whole number from low on."""
     # For Python a truth is an int, too; here it is no whole number.
-    return isinstance(thing, int) and not isinstance(thing, bool) and low <= thing <= high
+    return isinstance(thing, int) and not isinstance(thing, bool) and low <= thing
 
 
 def are_whole(things, low, high):

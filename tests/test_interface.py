@@ -24,7 +24,24 @@ FUNCTIONS = {
         "fewest_for": ["widths", "lengths", "keep", "spare"], "cut_spread": ["widths", "lengths"],
         "shows_spread": ["widths", "lengths", "free", "ends", "more"],
     },
+    "plans": {
+        "planned": ["scheme", "stock", "shelves", "years", "even"],
+        "most_years": ["scheme", "stock", "shelves", "most"],
+    },
+    "carts": {
+        "loads": ["groups", "capacity"], "shows_loads": ["groups", "capacity", "thing"],
+        "days_left": ["counts", "windows", "days"], "fewest_carts": ["counts", "windows", "days"],
+        "shows_carts": ["counts", "windows", "days", "many", "schedule", "paper"],
+        "shows_never": ["counts", "windows", "days", "paper"],
+    },
+    "looks": {
+        "seek": ["row", "size", "mark", "name"], "shows_seek": ["row", "size", "mark", "name", "thing"],
+        "most_looks": ["many"], "sought": ["move", "size", "mark", "name"], "most_sought": ["move"],
+    },
 }
+
+# What may be left out of a call, and what it is then.
+DEFAULTS = {"cut_fewest": [0], "planned": [False], "seek": [None], "sought": [None]}
 
 # The methods of each class, with their arguments behind self.
 CLASSES = {
@@ -41,6 +58,16 @@ CLASSES = {
         "__init__": ["shelves"], "stand": ["shelf", "volume"], "take": ["name"], "shift": ["name", "shelf"],
         "shelves": [], "row": ["shelf"], "free": ["shelf"], "rows": [], "volumes": [], "many": [], "where": ["name"],
         "copied": [],
+    }},
+    "plans": {"Plan": {
+        "told": [], "gap": ["name"], "fills": ["name"], "volumes_of": ["name"], "rows": [], "house": [], "used": [],
+        "years": [], "runs": [], "volumes": [], "shelves": [],
+    }},
+    "moving": {"Move": {
+        "__init__": ["old", "plan", "capacity", "carts"], "load": ["cart"], "drive": ["cart"], "unload": ["cart"],
+        "ask": ["name"], "back": ["name"], "where": ["name"], "old_house": [], "new_house": [], "on_cart": ["cart"],
+        "cart_at": ["cart"], "load_of": ["cart"], "carts": [], "out": [], "loads": [], "left": [], "ended": [],
+        "journal": [], "copied": [],
     }},
 }
 
@@ -67,12 +94,12 @@ class InterfaceTest(unittest.TestCase):
                     told = [word.arg for word in found[method].args.args]
                     self.assertEqual(told, ["self"] + arguments, (name, method))
 
-    def test_only_the_keep_may_be_left_out(self):
+    def test_what_may_be_left_out(self):
         for module in list(FUNCTIONS) + list(CLASSES):
             for row in ast.walk(read(module)):
                 if isinstance(row, ast.FunctionDef):
                     some = [default.value for default in row.args.defaults]
-                    self.assertEqual(some, [0] if row.name == "cut_fewest" else [], row.name)
+                    self.assertEqual(some, DEFAULTS.get(row.name, []), row.name)
 
 
 if __name__ == "__main__":

@@ -8,7 +8,7 @@ from shelvesmoved.errors import (Alone, NoMark, NoName, NoNumber, NoRun, NoVolum
 from shelvesmoved.marks import mark_ahead
 from shelvesmoved.runs import Scheme
 from shelvesmoved.stock import Stock
-from tests.things import ODD_NUMBERS, ODD_THINGS, Case, Numbers, names
+from tests.things import ODD_NUMBERS, ODD_THINGS, Case, Numbers, names, stock_of
 
 # All in order.
 RUNS = [
@@ -28,13 +28,6 @@ def all_of(scheme):
     """All that a scheme tells of itself."""
     told = scheme.names()
     return [scheme.runs(), told, [scheme.run(name) for name in told], [scheme.span(name) for name in told]]
-
-
-def stock_of(volumes):
-    stock = Stock()
-    for volume in volumes:
-        stock.put_in(volume)
-    return stock
 
 
 def run_by_the_words(runs, volume):

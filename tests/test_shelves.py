@@ -6,8 +6,8 @@ import unittest
 from shelvesmoved.errors import (Broken, NoMark, NoName, NoNumber, NoRoom, NoRows, NoShelf, NoVolume, ShelvesError,
                                  Taken, TooLow, TooMany, Unknown)
 from shelvesmoved.shelves import House, house_of
-from shelvesmoved.volumes import are_in_order, volume_ahead
-from tests.things import ODD_NUMBERS, ODD_THINGS, Case, Numbers, names
+from shelvesmoved.volumes import volume_ahead
+from tests.things import ODD_NUMBERS, ODD_THINGS, Case, Numbers, is_as_promised, names
 
 GOOD = ("a", 1, 1)
 
@@ -40,14 +40,6 @@ def all_of(house):
     told = [shelf[0] for shelf in house.shelves()]
     return [house.shelves(), house.rows(), house.volumes(), house.many(), [house.row(name) for name in told],
             [house.free(name) for name in told], [house.where(volume[0]) for volume in house.volumes()]]
-
-
-def is_as_promised(house):
-    """Whether a house is as point 7 promises it."""
-    for (_, height, length), row in zip(house.shelves(), house.rows()):
-        if sum(volume[3] for volume in row) > length or [volume for volume in row if volume[2] > height]:
-            return False
-    return are_in_order([volume for row in house.rows() for volume in row])
 
 
 class HouseCase(Case):

@@ -6,7 +6,7 @@ import unittest
 from shelvesmoved.errors import NoMark, NoName, NoNumber, NoVolume, Taken, TooMany, Unknown
 from shelvesmoved.stock import Stock
 from shelvesmoved.volumes import are_in_order
-from tests.things import ODD_NUMBERS, ODD_THINGS, Case, Numbers, names
+from tests.things import ODD_NUMBERS, ODD_THINGS, Case, Numbers, names, stock_of
 
 # All in order: by size, then by mark, then by name, whatever the width is.
 ORDERED = [
@@ -15,13 +15,6 @@ ORDERED = [
 ]
 
 NO_NAMES_THERE = ["zz", "e", "abcdefghi", "Z", "z ", "0", "a.0", 0, 1, ("z",), ["z"], {"z": 1}, ORDERED[0]]
-
-
-def stock_of(volumes):
-    stock = Stock()
-    for volume in volumes:
-        stock.put_in(volume)
-    return stock
 
 
 def sixty():

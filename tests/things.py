@@ -3,6 +3,8 @@
 import unittest
 
 from shelvesmoved.errors import NoName, ShelvesError
+from shelvesmoved.stock import Stock
+from shelvesmoved.volumes import are_in_order
 
 THIRTY_FIGURES = 10 ** 30 - 1
 
@@ -61,6 +63,21 @@ def names(many):
     """As many unlike names, in order."""
     letters = "abcdefghijklmnopqrstuvwxyz"
     return [letters[at // 26] + letters[at % 26] for at in range(many)]
+
+
+def stock_of(volumes):
+    stock = Stock()
+    for volume in volumes:
+        stock.put_in(volume)
+    return stock
+
+
+def is_as_promised(house):
+    """Whether a house is as point 7 promises it."""
+    for (_, height, length), row in zip(house.shelves(), house.rows()):
+        if sum(volume[3] for volume in row) > length or [volume for volume in row if volume[2] > height]:
+            return False
+    return are_in_order([volume for row in house.rows() for volume in row])
 
 
 class Numbers:
