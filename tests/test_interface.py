@@ -38,6 +38,14 @@ FUNCTIONS = {
         "seek": ["row", "size", "mark", "name"], "shows_seek": ["row", "size", "mark", "name", "thing"],
         "most_looks": ["many"], "sought": ["move", "size", "mark", "name"], "most_sought": ["move"],
     },
+    "widening": {
+        "widened": ["lengths", "rows", "volume"], "shows_widened": ["lengths", "rows", "volume", "thing"],
+    },
+    "casetext": {
+        "show_case": ["shelves", "scheme", "stock"], "read_case": ["text"], "show_house": ["house"],
+        "read_house": ["text"],
+    },
+    "desklines": {"read_line": ["line"]},
 }
 
 # What may be left out of a call, and what it is then.
@@ -69,6 +77,7 @@ CLASSES = {
         "cart_at": ["cart"], "load_of": ["cart"], "carts": [], "out": [], "loads": [], "left": [], "ended": [],
         "journal": [], "copied": [],
     }},
+    "desk": {"Desk": {"__init__": [], "say": ["line"], "run_lines": ["lines"]}},
 }
 
 

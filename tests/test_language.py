@@ -1,6 +1,7 @@
 """Those rules of the language subset that can be told at a glance: files, imports, sizes, signs, words."""
 
 import ast
+import builtins
 import os
 import re
 import unittest
@@ -67,6 +68,35 @@ class LanguageTest(unittest.TestCase):
                 self.assertNotIsInstance(getattr(row, "value", None), (float, complex), name)
                 if isinstance(row, ast.Constant) and isinstance(row.value, str):
                     self.assertNotIn(chr(37), row.value, name)
+
+    def test_names_are_plain(self):
+        for name, text in texts():
+            tree = ast.parse(text)
+            imports = {held.name for row in tree.body if isinstance(row, ast.ImportFrom) for held in row.names}
+            classes = {row.name for row in tree.body if isinstance(row, ast.ClassDef)}
+            self.assertEqual(imports - {row.id for row in ast.walk(tree) if isinstance(row, ast.Name)}, set(), name)
+            for row in ast.walk(tree):
+                if isinstance(row, ast.FunctionDef):
+                    self.assertEqual(locals_of(row) & (set(dir(builtins)) | imports | classes), set(), (name, row.name))
+
+    def test_no_two_files_import_from_each_other(self):
+        imports = {}
+        for name, text in texts():
+            rows = [row for row in ast.walk(ast.parse(text)) if isinstance(row, ast.ImportFrom)]
+            imports["shelvesmoved." + name[:-3]] = {row.module for row in rows}
+        # File by file those go that import from none that is left.
+        while imports:
+            done = [name for name, others in imports.items() if not others & set(imports)]
+            self.assertNotEqual(done, [], imports)
+            for name in done:
+                del imports[name]
+
+
+def locals_of(function):
+    """The names of a function's parameters and variables."""
+    names = {word.arg for word in ast.walk(function.args) if isinstance(word, ast.arg)}
+    stored = [row.id for row in ast.walk(function) if isinstance(row, ast.Name) and isinstance(row.ctx, ast.Store)]
+    return names | set(stored)
 
 
 if __name__ == "__main__":
